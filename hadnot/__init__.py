@@ -1,0 +1,1 @@
+"""Hadnot: a database that knows what its answers would have been in other worlds."""
