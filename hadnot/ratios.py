@@ -30,18 +30,12 @@ class Ratio:
         return f"{self.top}/{self.bottom}"
 
     def __add__(self, other):
-        if not isinstance(other, Ratio):
-            return NotImplemented
         return Ratio(self.top * other.bottom + other.top * self.bottom, self.bottom * other.bottom)
 
     def __sub__(self, other):
-        if not isinstance(other, Ratio):
-            return NotImplemented
         return Ratio(self.top * other.bottom - other.top * self.bottom, self.bottom * other.bottom)
 
     def __mul__(self, other):
-        if not isinstance(other, Ratio):
-            return NotImplemented
         return Ratio(self.top * other.top, self.bottom * other.bottom)
 
     def __neg__(self):

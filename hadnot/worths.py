@@ -127,10 +127,6 @@ class Worth:
 
     def put(self, name, other):
         """The worth whose choice has the option that another worth has as its value."""
-        if name not in self.choices:
-            raise UnknownName(name)
-        if self.choices != other.choices:
-            raise OtherChoices()
         result = Worth(self.choices, None)
         for option in range(self.choices[name]):
             result = result.or_else(self[name, option].limited(other.is_value(option)))
@@ -149,8 +145,6 @@ class Worth:
         return Worth(self.choices, joined(sign, self.form, other.form))
 
     def _over_options(self, sign, name):
-        if name not in self.choices:
-            raise UnknownName(name)
         result = self[name, 0]
         for option in range(1, self.choices[name]):
             result = result._joined(sign, self[name, option])

@@ -109,14 +109,14 @@ class EqualTest(unittest.TestCase):
                   choices_of(a=2, b=3, c=2), choices_of(c=2, a=2, b=3).without("c"),
                   choices_of(a=2, c=2, b=3).without("c"), choices_of(a=2, b=3).without("a").put("a", 2))
         for other in others:
-            self.assertFalse(base == other)
+            self.assertIs(base == other, False)
             self.assertTrue(base != other)
 
     def test_other_classes(self):
         for other in (None, {}, (), [], 0, "", ("a", "b"), {"a": 2, "b": 3}, object()):
-            self.assertFalse(Choices() == other)
-            self.assertFalse(choices_of(a=2, b=3) == other)
-            self.assertFalse(other == choices_of(a=2, b=3))
+            self.assertIs(Choices() == other, False)
+            self.assertIs(choices_of(a=2, b=3) == other, False)
+            self.assertIs(other == choices_of(a=2, b=3), False)
 
     def test_not_iterated(self):
         for choices in (Choices(), choices_of(a=2)):

@@ -67,15 +67,15 @@ class DeedTest(RaisesTest):
 
     def test_equal(self):
         deed = Deed("pay", ((), SAYING), "tip", (("c", 1),))
-        self.assertTrue(deed == Deed("pay", [[], [list(SAYING[0])]], "tip", [["c", 1]]))
+        self.assertIs(deed == Deed("pay", [[], [list(SAYING[0])]], "tip", [["c", 1]]), True)
         others = (Deed("pays", ((), SAYING), "tip", (("c", 1),)), Deed("pay", (SAYING, ()), "tip", (("c", 1),)),
                   Deed("pay", ((), SAYING), "tap", (("c", 1),)), Deed("pay", ((), SAYING), None, (("c", 1),)),
                   Deed("pay", ((), SAYING), "tip", (("c", 0),)), Deed("pay", ((), SAYING), "tip"),
                   deed.with_opened(0), deed.with_opened(1))
         for other in (*others, None, "pay", ("pay", ((), SAYING), "tip", (("c", 1),)), Day(), object()):
-            self.assertFalse(deed == other)
+            self.assertIs(deed == other, False)
             self.assertTrue(deed != other)
-            self.assertFalse(other == deed)
+            self.assertIs(other == deed, False)
 
 
 class DayTest(RaisesTest):
@@ -144,8 +144,8 @@ class DayTest(RaisesTest):
     def test_choice_numbers(self):
         day = Day().with_choice("a", 2).with_choice("b", 2).without_choice("b").with_choice("c", 2)
         self.assertEqual((day.choices.number("a"), day.choices.number("c")), (0, 2))
-        self.assertFalse(day == Day().with_choice("a", 2).with_choice("c", 2))
-        self.assertTrue(day.without_choice("c") == Day().with_choice("a", 2))
+        self.assertIs(day == Day().with_choice("a", 2).with_choice("c", 2), False)
+        self.assertIs(day.without_choice("c") == Day().with_choice("a", 2), True)
 
     def test_standing(self):
         day = Day().with_choice("a", 2).with_choice("b", 4)
@@ -262,7 +262,7 @@ class OpenedTest(RaisesTest):
         self.assertEqual(day["shop"].opened, 1)
         self.assertIsNone(day["pay"].opened)
         self.assertEqual(day.choices.names, ("tip", "buy", "shop.0", "shop.1"))
-        self.assertFalse(day == example())
+        self.assertIs(day == example(), False)
         for work, args in ((day.with_saying, (0, ())), (day.with_saying, (1, ())), (day.without_deed, ())):
             self.named(Opened, "shop", work, "shop", *args)
         for row in ("shop.0", "shop.1"):
@@ -284,14 +284,22 @@ class OpenedTest(RaisesTest):
         self.raises(Unready, {"where": "g", "name": "shop.2"}, day.with_rule, "g", (), ("chosen", "shop.2", 0))
         self.named(Opened, "shop", day.without_choice, "shop.0")
 
+    def test_other_choices_may_be_left_out(self):
+        day = opened_day(example().with_choice("shop", 2), "shop", 1, 2)
+        self.assertNotIn("shop", day.without_choice("shop").choices)
+        # Only the choices of a deed that is opened stay.
+        closed = day._with_deeds([deed.with_opened(None) for deed in day.deeds])
+        self.assertNotIn("shop.1", closed.without_choice("shop.1").choices)
+        self.assertNotIn("shop.1", closed.without_deed("shop").without_choice("shop.1").choices)
+
 
 class EqualTest(RaisesTest):
     def test_equal(self):
-        self.assertTrue(Day() == Day())
-        self.assertTrue(full_day() == full_day())
-        self.assertTrue(full_day().with_cell("a", 1).with_cell("a", None) == full_day())
+        self.assertIs(Day() == Day(), True)
+        self.assertIs(full_day() == full_day(), True)
+        self.assertIs(full_day().with_cell("a", 1).with_cell("a", None) == full_day(), True)
         # Cells, rows and tables have no order.
-        self.assertTrue(Day().with_cell("x", 1).with_cell("y", 2) == Day().with_cell("y", 2).with_cell("x", 1))
+        self.assertIs(Day().with_cell("x", 1).with_cell("y", 2) == Day().with_cell("y", 2).with_cell("x", 1), True)
         self.assertTrue(Day().with_table("t", ("p",)).with_table("u", ("p",))
                         == Day().with_table("u", ("p",)).with_table("t", ("p",)))
 
@@ -311,29 +319,29 @@ class EqualTest(RaisesTest):
             day.without_deed("last").without_rule("g").without_rule("f").with_rule("g", (), 1),
         )
         for at, other in enumerate(others):
-            self.assertFalse(day == other, at)
+            self.assertIs(day == other, False, at)
             self.assertTrue(day != other, at)
-            self.assertFalse(other == day, at)
+            self.assertIs(other == day, False, at)
 
     def test_prices_of_standing_options(self):
         one, other = (Day().with_choice("c", 2, prices=prices) for prices in ((0, 5), (1, 5)))
-        self.assertFalse(one == other)
-        self.assertTrue(Day().with_choice("c", 2, prices=(1, 1)) == Day().with_choice("c", 2))
+        self.assertIs(one == other, False)
+        self.assertIs(Day().with_choice("c", 2, prices=(1, 1)) == Day().with_choice("c", 2), True)
 
     def test_numbers_of_choices(self):
         one = Day().with_choice("a", 2).with_choice("b", 2)
-        self.assertFalse(one == Day().with_choice("b", 2).with_choice("a", 2))
-        self.assertFalse(one == Day().with_choice("z", 2).with_choice("a", 2).with_choice("b", 2).without_choice("z"))
+        self.assertIs(one == Day().with_choice("b", 2).with_choice("a", 2), False)
+        self.assertIs(one == Day().with_choice("z", 2).with_choice("a", 2).with_choice("b", 2).without_choice("z"), False)
 
     def test_order_of_rules(self):
         one = Day().with_rule("f", (), 1).with_rule("g", (), 2)
-        self.assertFalse(one == Day().with_rule("g", (), 2).with_rule("f", (), 1))
-        self.assertFalse(one == Day().with_rule("f", ("v",), 1).with_rule("g", (), 2))
+        self.assertIs(one == Day().with_rule("g", (), 2).with_rule("f", (), 1), False)
+        self.assertIs(one == Day().with_rule("f", ("v",), 1).with_rule("g", (), 2), False)
 
     def test_other_classes(self):
         for other in (None, 0, (), {}, "", Choices(), Deed("a", ((),)), object()):
-            self.assertFalse(Day() == other)
-            self.assertFalse(other == Day())
+            self.assertIs(Day() == other, False)
+            self.assertIs(other == Day(), False)
 
 
 class EditsTest(RaisesTest):

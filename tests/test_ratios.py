@@ -54,12 +54,12 @@ class RatioTest(unittest.TestCase):
 
     def test_equal_to_no_other_object(self):
         for other in (1, True, "1", None, (1, 1), Fraction(1), [1], object()):
-            self.assertFalse(Ratio(1) == other)
+            self.assertIs(Ratio(1) == other, False)
             self.assertTrue(Ratio(1) != other)
-            self.assertFalse(other == Ratio(1))
-        self.assertFalse(Ratio(0) == 0)
-        self.assertFalse(Ratio(1, 2) == Ratio(2, 1))
-        self.assertTrue(Ratio(2, 4) == Ratio(-1, -2))
+            self.assertIs(other == Ratio(1), False)
+        self.assertIs(Ratio(0) == 0, False)
+        self.assertIs(Ratio(1, 2) == Ratio(2, 1), False)
+        self.assertIs(Ratio(2, 4) == Ratio(-1, -2), True)
 
     def test_texts(self):
         for pair in PAIRS:

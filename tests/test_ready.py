@@ -5,6 +5,7 @@ import unittest
 
 from hadnot.days import Day, Deed
 from hadnot.errors import InvalidDeed, InvalidName, Taken, UnknownName, Unready
+from hadnot.ready import unready_things
 
 # Expressions on the day below with a name that is not there; the option that is
 # not there is told by its choice, the wrong number of values by its rule.
@@ -218,6 +219,14 @@ class ReadyTest(unittest.TestCase):
             self.unready(where, "d", there.without_choice, "d")
             there = getattr(there, work)(*args)
         self.assertEqual(there.without_choice("d").choices.names, ("c",))
+
+    def test_order_of_rows_of_a_table(self):
+        """Two at once, as no single edit makes them."""
+        there = day()
+        for key, name in (("k", "n1"), (10, "n2"), (9, "n3"), (-1, "n4"), ("a", "n5")):
+            there._rows = {**there._rows, ("t", key): ((1, 2), ((name, 0),))}
+        told = [("t", name) for name in ("n4", "n3", "n2", "n5", "n1")]
+        self.assertEqual(unready_things(there), told)
 
     def test_other_errors_come_first(self):
         wrong = ("call", "m")

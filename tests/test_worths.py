@@ -13,7 +13,7 @@ ALL_CHOICES = (
     Choices(),
     choices_of(a=2),
     choices_of(b=4),
-    choices_of(b=3, a=2),
+    choices_of(b=3, word=2),
     choices_of(a=2, number=2, c=3),
     choices_of(x=2, z=2, y=2, truth=2),
     choices_of(x=2, b=2, a=3, q=2).without("x").put("none", 2),
@@ -138,7 +138,7 @@ class WorthTest(FormTest):
         for choices, told, worth in tables(seeds=1):
             for order in itertools.permutations(choices.names):
                 other = worth_of(choices, told, order)
-                self.assertTrue(worth == other)
+                self.assertIs(worth == other, True)
                 self.assertFalse(worth != other)
                 self.assertEqual(repr(worth.nodes), repr(other.nodes))
 
@@ -153,15 +153,15 @@ class WorthTest(FormTest):
 
     def test_equal_kinds_and_choices(self):
         choices = choices_of(a=2)
-        self.assertFalse(Worth(choices, 1) == Worth(choices, True))
-        self.assertFalse(Worth(choices, 0) == Worth(choices, False))
-        self.assertFalse(Worth(choices, 0) == Worth(choices, None))
-        self.assertFalse(Worth(choices, 1) == Worth(choices_of(a=3), 1))
-        self.assertFalse(Worth(choices, 1) == Worth(Choices(), 1))
-        self.assertTrue(Worth(choices, 1) == Worth(choices_of(a=2, b=2).without("b"), 1))
+        self.assertIs(Worth(choices, 1) == Worth(choices, True), False)
+        self.assertIs(Worth(choices, 0) == Worth(choices, False), False)
+        self.assertIs(Worth(choices, 0) == Worth(choices, None), False)
+        self.assertIs(Worth(choices, 1) == Worth(choices_of(a=3), 1), False)
+        self.assertIs(Worth(choices, 1) == Worth(Choices(), 1), False)
+        self.assertIs(Worth(choices, 1) == Worth(choices_of(a=2, b=2).without("b"), 1), True)
         for other in (1, None, "1", (("number", 1),), [], choices, object()):
-            self.assertFalse(Worth(choices, 1) == other)
-            self.assertFalse(other == Worth(choices, 1))
+            self.assertIs(Worth(choices, 1) == other, False)
+            self.assertIs(other == Worth(choices, 1), False)
 
     def test_not_iterated(self):
         for worth in (Worth(Choices(), 1), Worth.by(choices_of(a=2), "a", (1, 2))):
