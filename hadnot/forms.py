@@ -1,13 +1,13 @@
 """The forms of worths: nodes, each behind all that is below it.
 
 The functions here keep what they work on in lists of their own, and take the
-sign of a deed instead of a function: the operators of worths run them, and
+sign of an operation instead of a function: the operators of worths run them, and
 these change nothing and call nothing that they are passed.
 """
 
 from hadnot.values import is_same, kind_of
 
-# The kinds of values for which these deeds have a value other than None.
+# The kinds of values for which these operations have a value other than None.
 KINDS = {
     "+": ("number",),
     "-": ("number",),
@@ -62,12 +62,12 @@ def is_choice(node):
 
 
 def drawn(form):
-    """The form of a function whose nodes may be needless, alike, or in another order."""
+    """A form whose nodes may be needless, alike, or in another order, drawn as [11] has it."""
     return joined("else", form, Form((("none", None),), (max(form.levels),)))
 
 
 def joined(sign, one, other):
-    """The form of a deed with two forms, world by world.
+    """The form of an operation on two forms, world by world.
 
     Pairs of nodes are gone through from the uppermost one, option by option,
     and are done behind all that is below them: so the nodes get their numbers.
@@ -120,7 +120,7 @@ def pairs_below(one, other, pair):
 
 
 def combined(sign, one, other):
-    """The value node of a deed with two value nodes."""
+    """The value node of an operation on two value nodes."""
     if sign not in KINDS:
         value = picked(sign, one[1], other[1])
     elif one[0] == other[0] and one[0] in KINDS[sign]:
@@ -131,7 +131,7 @@ def combined(sign, one, other):
 
 
 def worked(sign, one, other):
-    """The value of a deed that asks for the kinds of its values."""
+    """The value of an operation that asks for the kinds of its values."""
     if sign == "+":
         return one + other
     if sign == "-":
@@ -152,7 +152,7 @@ def worked(sign, one, other):
 
 
 def picked(sign, one, other):
-    """The value of a deed with values of all kinds."""
+    """The value of an operation on values of all kinds."""
     if sign == "is":
         return is_same(one, other)
     if sign == "either":

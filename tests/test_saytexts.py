@@ -1,5 +1,6 @@
 """[15], [16], [18], [19]: the texts of expressions and sayings."""
 
+import re
 import unittest
 
 from hadnot.errors import InvalidText
@@ -67,6 +68,52 @@ ROWS = (
       (("if", ("has", "z"), (("tell", 3),), ()),)),
      "if has x\neach v t\nif has y\nelse\ntell 1\nend\ntell 2\nend\nelse\nif has z\ntell 3\nend\nend"),
 )
+
+
+# What stands behind each first word: N a name, C the name of a choice, O an option, E an expression,
+# M a number of expressions and these.
+WORDS = {"part": "NEN", "has": "N", "stands": "NE", "done": "N", "chosen": "CO", "+": "EE", "-": "EE", "*": "EE",
+         "least": "EE", "most": "EE", "<": "EE", "=": "EE", "and": "EE", "or": "EE", "not": "E", "when": "EEE",
+         "call": "NM", "count": "NNE", "sum": "NNEE", "low": "NNEE", "high": "NNEE"}
+LINES = {"let": "NE", "put": "NE", "drop": "N", "insert": "NEM", "change": "NENE", "delete": "NE", "if": "E",
+         "each": "NN", "need": "E", "tell": "E"}
+PATTERNS = {"N": "[a-z][a-z0-9]{0,5}", "C": "[a-z][a-z0-9]{0,5}([.](0|[1-9][0-9]?))?", "O": "[0-3]", "M": "[0-9]",
+            "E": "0|-?[1-9][0-9]{0,17}|['@$][a-z][a-z0-9]{0,5}"}
+
+
+def line_stands(line):
+    """Whether a line is one of a row, told word by word."""
+    words = line.split(" ")
+    if words[0] not in LINES:
+        return False
+    waiting = LINES[words[0]]
+    for word in words[1:]:
+        if waiting == "":
+            return False
+        if waiting[0] == "E" and word in WORDS:
+            waiting = WORDS[word] + waiting[1:]
+        elif not re.fullmatch(PATTERNS[waiting[0]], word):
+            return False
+        else:
+            waiting = ("E" * int(word) if waiting[0] == "M" else "") + waiting[1:]
+    return waiting == ""
+
+
+def first_wrong(lines):
+    """The first line that cannot stand there, or None."""
+    around = []
+    if lines == [""]:
+        return None
+    for at, line in enumerate(lines):
+        if line == "end" and around:
+            around.pop()
+        elif line == "else" and around[-1:] == ["if"]:
+            around[-1] = "else"
+        elif not line_stands(line):
+            return at
+        elif line.split(" ")[0] in ("if", "each"):
+            around.append(line.split(" ")[0])
+    return len(lines) if around else None
 
 
 def listed(value):
@@ -226,26 +273,42 @@ class SayingTest(unittest.TestCase):
                     self.check_lines(changed)
 
     def check_lines(self, lines):
-        row = self.first_wrong(lines)
+        row = first_wrong(lines)
+        text = "\n".join(lines)
         if row is not None:
-            self.refused("\n".join(lines), row)
+            self.refused(text, row)
         else:
-            told = show_saying(read_saying("\n".join(lines)))
-            self.assertEqual(told.replace("else\nend", "end"), "\n".join(lines).replace("else\nend", "end"))
+            # An else with no rows behind it is read, but not written.
+            kept = [line for at, line in enumerate(lines) if (line, lines[at + 1:at + 2]) != ("else", ["end"])]
+            self.assertEqual(show_saying(read_saying(text)), "\n".join(kept))
 
-    def first_wrong(self, lines):
-        """The first line that cannot stand there, told by counting only."""
-        around = []
-        if lines == [] or lines == [""]:
-            return None
-        for at, line in enumerate(lines):
-            word = line.split(" ")[0]
-            if line == "" or word in ("else", "end") and not around or word == "else" and around[-1] != "if":
-                return at
-            if word in ("if", "each"):
-                around.append(word)
-            elif word == "else":
-                around[-1] = "else"
-            elif word == "end":
-                around.pop()
-        return len(lines) if around else None
+    def changed_texts(self, text, signs):
+        """Texts with one sign changed, left out, put in, doubled or exchanged."""
+        for at in range(len(text) + 1):
+            yield text[:at] + text[at + 1:]
+            yield text[:at] + text[at:at + 1] + text[at:]
+            yield text[:at] + text[at + 1:at + 2] + text[at:at + 1] + text[at + 2:]
+            for sign in signs:
+                yield text[:at] + sign + text[at:]
+                yield text[:at] + sign + text[at + 1:]
+
+    def test_each_sign_changed(self):
+        for _, text in ROWS:
+            for changed in self.changed_texts(text, " a09-'@$.+A\n_"):
+                self.check_lines(changed.split("\n"))
+        for _, text in EXPRESSIONS:
+            for changed in self.changed_texts(f"tell {text}", " t05-'$.A"):
+                self.check_lines(changed.split("\n"))
+
+    def test_each_word_changed(self):
+        saying = "\n".join(text for _, text in ROWS).split("\n")
+        words = ("end", "else", "if", "1", "-1", "10", "@x", "x", "t", "'a", "a.1", "+", "call", "", "tell")
+        for at, line in enumerate(saying):
+            parts = line.split(" ")
+            for place in range(len(parts) + 1):
+                rows = [parts[:place] + parts[place + 1:], parts[:place + 1] + parts[place:],
+                        parts[:place] + parts[place + 1:place + 2] + parts[place:place + 1] + parts[place + 2:]]
+                for word in words:
+                    rows += [parts[:place] + [word] + parts[place:], parts[:place] + [word] + parts[place + 1:]]
+                for row in rows:
+                    self.check_lines(saying[:at] + [" ".join(row)] + saying[at + 1:])
