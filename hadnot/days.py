@@ -48,6 +48,8 @@ class Day:
         self._tables = {}
         self._cells = {}
         self._rows = {}
+        # Of a draft it is not asked whether what it names is there.
+        self._draft = False
 
     @property
     def standing(self):
@@ -254,12 +256,28 @@ class Day:
         made._tables = self._tables
         made._cells = self._cells
         made._rows = self._rows
+        made._draft = self._draft
         return made
 
     def _ready(self):
-        for where, name in unready_things(self):
-            raise Unready(where, name)
+        if not self._draft:
+            for where, name in unready_things(self):
+                raise Unready(where, name)
         return self
+
+
+def draft():
+    """The empty day, to which anything is added before it is finished."""
+    day = Day()
+    day._draft = True
+    return day
+
+
+def finished(day):
+    """The day of a draft, if all that it names is there."""
+    made = day._copy()
+    made._draft = False
+    return made._ready()
 
 
 def without_key(table, key):

@@ -27,6 +27,10 @@ class Line:
         self.taken = self.taken + 1
         return self.words[self.taken - 1]
 
+    def ahead(self):
+        """The next word, which is not taken yet; None at the end."""
+        return self.words[self.taken] if self.taken < len(self.words) else None
+
     def check(self, holds):
         """Refuse the line unless something holds."""
         if not holds:

@@ -64,3 +64,29 @@ def expression_parts(expression):
 def row_parts(row):
     """The pairs of a kind and a part of a row of a saying."""
     return list(zip(ROWS[row[0]], row[1:]))
+
+
+def numbered(rows, first=0):
+    """The rows with their numbers: triples of the number, the row, and the same of the rows in it.
+
+    The third item has one list for each part of the row that has rows.
+    """
+    triples = []
+    for row in rows:
+        blocks = []
+        behind = first + 1
+        for kind, part in row_parts(row):
+            if kind == "rows":
+                blocks.append(numbered(part, behind))
+                behind = behind + many_rows(part)
+        triples.append((first, row, blocks))
+        first = behind
+    return triples
+
+
+def many_rows(rows):
+    """The number of rows, those within others too."""
+    many = len(rows)
+    for row in rows:
+        many = many + sum([many_rows(part) for kind, part in row_parts(row) if kind == "rows"])
+    return many
