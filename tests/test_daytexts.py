@@ -166,6 +166,8 @@ class ReadTest(unittest.TestCase):
 
     def test_good_lines(self):
         head = ["table t p q", "choice c 3 0 1 1 1"]
+        day = read_day(text_of("choice c 4 3 1 1 1 1", "choice d 2 1 1 1", "cell x by c 1 2 3 4", "cell y by d 1 2"))
+        self.assertEqual(day.all_cells, {"x": ("c", (1, 2, 3, 4)), "y": ("d", (1, 2))})
         for line in ("cell x 0", "cell x 'none", "cell by by c 'by none -1", "cell x 999999999999999999", "row t 'by 0 'with",
                      "row t 0 1 2 with c 2 with c 0", "rule f 9 a b c d e f g h i $a", "rule f 0 count v t chosen c 2"):
             self.assertEqual(show_day(read_day(text_of(*head, line))).split("\n")[2], line)

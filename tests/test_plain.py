@@ -258,6 +258,9 @@ class RowTest(unittest.TestCase):
                               ("change", "t", ("word", "k"), "b", 0)])
         self.assertEqual([view.row_of("t", 10), view.row_of("t", "k"), view.row_of("t", -3)],
                          [("abc", "abc"), (4, 0), (7, "y")])
+        day = Day().with_table("t", ("a", "b", "c")).with_row("t", 1, (1, 2, 3))
+        for part, wanted in (("a", (9, 2, 3)), ("b", (1, 9, 3)), ("c", (1, 2, 9))):
+            self.assertEqual(self.run_rows([("change", "t", 1, part, 9)], day).row_of("t", 1), wanted)
         yes = ("has", "n")
         self.refused([("change", "t", 10, "a", 0), ("change", "t", 11, "a", 1)], (1, "missing"))
         self.refused([("change", "t", 11, "a", yes)], (0, "kind"))
