@@ -8,6 +8,9 @@ FUNCTIONS = {
     "values": ("is_name(value)", "is_value(value)", "is_same(one, other)", "in_order(values)", "show(value)"),
     "daytexts": ("show_day(day)", "read_day(text)"),
     "plain": ("run(day, world)",),
+    "turning": ("turning_sets(worth, standing)", "count_turning(worth, standing)"),
+    "supports": ("support(worth, standing, pair)",),
+    "shares": ("shares(worth, start, end)",),
     "saytexts": ("show_expression(expression)", "show_saying(saying)", "read_expression(text)", "read_saying(text)"),
 }
 CLASSES = {
@@ -34,6 +37,10 @@ CLASSES = {
                  "without_deed(self, name)", "without_choice(self, name)", "__getitem__(self, name)",
                  "__contains__(self, name)", "__len__(self)", "__eq__(self, other)"),
     "views.View": ("value(self, cell, *, behind=None)", "keys_of(self, table, *, behind=None)",
+                   "row_of(self, table, key, *, behind=None)", "__getitem__(self, cell)", "__contains__(self, cell)",
+                   "is_there(self, deed)", "done(self, deed)", "refusal(self, deed)", "told(self, deed)",
+                   "ask(self, expression, *, behind=None)", "answer(self, question, *, behind=None)"),
+    "lifts.Lift": ("__init__(self, day)", "value(self, cell, *, behind=None)", "keys_of(self, table, *, behind=None)",
                    "row_of(self, table, key, *, behind=None)", "__getitem__(self, cell)", "__contains__(self, cell)",
                    "is_there(self, deed)", "done(self, deed)", "refusal(self, deed)", "told(self, deed)",
                    "ask(self, expression, *, behind=None)", "answer(self, question, *, behind=None)"),

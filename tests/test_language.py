@@ -231,12 +231,16 @@ class PureTest(unittest.TestCase):
     """What operators run changes nothing but lists and dicts of its own."""
 
     def reached_functions(self):
+        """All that operators and properties reach: functions and methods by their names, and __init__ of classes."""
         named = {}
-        graph = {}
         for name, node in NODES:
-            if isinstance(node, ast.FunctionDef):
+            if isinstance(node, ast.FunctionDef) and node.name != "__init__":
                 named.setdefault(node.name, []).append((name, node))
-        classes = {node.name: node for _, node in NODES if isinstance(node, ast.ClassDef)}
+            if isinstance(node, ast.ClassDef):
+                # An __init__ assigns attributes of its own object: only what it calls is looked at.
+                named.setdefault(node.name, []).extend(
+                    (name, part) for part in node.body if isinstance(part, ast.FunctionDef) and part.name == "__init__")
+        graph = {}
         for word in named:
             graph[word] = set()
             for _, node in named[word]:
@@ -244,10 +248,8 @@ class PureTest(unittest.TestCase):
                     if isinstance(call, ast.Call):
                         target = call.func
                         called = target.id if isinstance(target, ast.Name) else target.attr
-                        graph[word] |= {called} & set(named)
-                        if called in classes or called == "cls":
-                            graph[word].add("__init__")
-        signs = {word for word in named if word.startswith("__") and word not in ("__init__", "__call__")}
+                        graph[word] |= {"Worth" if called == "cls" else called} & set(named)
+        signs = {word for word in named if word.startswith("__") and word != "__call__"}
         for _, node in NODES:
             if isinstance(node, ast.FunctionDef) and node.decorator_list:
                 if ast.unparse(node.decorator_list[0]) == "property":
@@ -255,7 +257,7 @@ class PureTest(unittest.TestCase):
         found = set(signs)
         for sign in signs:
             found |= reached(graph, sign)
-        return [pair for word in found - {"__init__"} for pair in named[word]]
+        return [pair for word in found for pair in named[word] if pair[1].name != "__init__"]
 
     def test_operators_change_nothing(self):
         functions = self.reached_functions()
