@@ -19,7 +19,10 @@ GATHERING = ("count", "sum", "low", "high")
 
 
 def at_once(sign, one, other):
-    """The number of the node to which an operation comes without looking below, or None."""
+    """The number of the node to which an operation comes without looking below, or None.
+
+    Of truths there is no other answer to both, either, minus, and cut by a truth.
+    """
     if sign == "cut":
         if one == NONE or other == TRUE:
             return one
@@ -46,21 +49,23 @@ def at_once(sign, one, other):
 
 
 def leaf_between(sign, one, other):
-    """The leaf that an operation makes of two leaves."""
+    """The leaf that an operation makes of two leaves to which at_once knows no answer."""
     if sign in GATHERING:
         return one if other[0] == "none" else outcome_leaf(gathered(sign, one[1], other[1]))
     if sign in ON_VALUES:
         return outcome_leaf(operated(sign, one[1], other[1]))
-    if sign == "stop":
-        return one if one[0] == "none" else ("stop", (other[1], one[1]))
-    if sign in ("cut", "read", "present"):
+    if sign in ("read", "present"):
         return leaf_where(sign, one, other)
-    if sign == "fill":
-        return other if one[0] == "none" else one
     if sign in ("and", "or"):
         return leaf_of_truths(sign, one, other)
-    if sign in ("both", "either", "minus", "is", "known"):
-        return value_leaf(truth_between(sign, one, other))
+    if sign == "stop":
+        return one if one[0] == "none" else ("stop", (other[1], one[1]))
+    if sign == "is":
+        return ("truth", one == other)
+    if sign == "known":
+        return ("truth", one[0] != "none")
+    if sign == "fill":
+        return one
     return leaf_changed(sign, one)
 
 
@@ -81,9 +86,7 @@ def leaf_where(sign, one, other):
         return ("none", None)
     if sign == "present":
         return ("truth", one[0] != "none")
-    if sign == "read" and one[0] == "none":
-        return ("fault", MISSING)
-    return one
+    return ("fault", MISSING) if one[0] == "none" else one
 
 
 def leaf_of_truths(sign, one, other):
@@ -91,19 +94,6 @@ def leaf_of_truths(sign, one, other):
     if one[0] == "none" or one[1] == (sign == "or"):
         return one
     return leaf_changed("truth", other)
-
-
-def truth_between(sign, one, other):
-    """The truth that an operation makes of two leaves."""
-    if sign == "known":
-        return one[0] != "none"
-    if sign == "is":
-        return one == other
-    if sign == "both":
-        return one[1] is True and other[1] is True
-    if sign == "either":
-        return one[1] is True or other[1] is True
-    return one[1] is True and other[1] is not True
 
 
 def leaf_changed(sign, one):

@@ -72,7 +72,7 @@ class LiftDoing:
         rows = self.sheet.rows_to_change(table)
         if stands != FALSE:
             rows[key] = (stands, parts)
-        elif key in rows:
+        else:
             del rows[key]
 
 

@@ -37,8 +37,6 @@ def has_row(counts, many):
 
 def steps_below(node, pairs, world, pool):
     """The nodes below a node with the pairs above them, those whose rows come first last."""
-    if pool.levels[node] == pool.bottom:
-        return []
     name = pool.choices.names[pool.levels[node]]
     steps = [(pool.under[node][world[name]], pairs)]
     for option in range(len(pool.under[node]) - 1, -1, -1):

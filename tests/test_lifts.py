@@ -2,6 +2,7 @@
 
 import random
 import unittest
+from unittest import mock
 
 from hadnot.days import Day, Deed
 from hadnot.errors import TooWide, UnknownName, Unready
@@ -92,6 +93,15 @@ class AgainstRuns(unittest.TestCase):
             for behind in ("", *day.names, None):
                 self.ask(maker, lift, worlds, views, behind)
 
+    def test_what_is_forgotten(self):
+        """What operations have made is kept for speed alone."""
+        for seed in range(8):
+            day = Maker(seed).day()
+            with mock.patch.multiple("hadnot.pools", MOST_KEPT=10):
+                lift = Lift(day)
+                self.compare(day, lift, all_worlds(day.choices))
+            self.assertEqual([lift[cell] for cell in CELLS], [Lift(day)[cell] for cell in CELLS])
+
     def test_large_days_in_drawn_worlds(self):
         rows = random.Random(4)
         compared = 0
@@ -172,17 +182,18 @@ class LiftTest(unittest.TestCase):
             day = day.with_row("t", key, (0,)).with_row("u", f"k{key}", (0,), only=[("b", key - 1)])
         r, s = ("my", "r"), ("my", "s")
         first = [("tell", 1), ("each", "r", "t", [("tell", r), ("each", "s", "u", [("if", ("=", r, 1), [("tell", s)], [])])]),
-                 ("if", ("chosen", "b", 1), [("tell", 2), ("need", ("has", "x"))], [])]
+                 ("tell", 7), ("if", ("chosen", "b", 1), [("tell", 2), ("need", ("has", "x"))], [])]
         day = day.with_deed(Deed("d", [first, [("tell", ("chosen", "b", 1))]], "a"))
         told = Lift(day).told("d")
         self.assertEqual([(row, keys, str(worth)) for row, keys, worth in told], [
             (0, (), "1 ; none ; b(0 1) ; a(2 1)"), (2, (1,), "1 ; none ; b(0 1) ; a(2 1)"),
             (5, (1, "k1"), "'k1 ; none ; b(0 1) ; a(2 1)"), (2, (2,), "2 ; none ; b(0 1) ; a(2 1)"),
-            (0, (), "none ; false ; true ; b(1 2) ; a(0 3)")])
+            (6, (), "7 ; none ; b(0 1) ; a(2 1)"), (0, (), "none ; false ; true ; b(1 2) ; a(0 3)")])
         self.assertEqual(Lift(day.without_deed("d").with_deed(Deed("e", [[]]))).told("e"), ())
 
     def test_missing_is_a_word(self):
         day = Day().with_choice("a", 2).with_deed(Deed("d", [[], [("tell", 1), ("drop", "x")]], "a"))
+        self.assertIsInstance(Lift(day).refusal("d"), tuple)
         row, word = Lift(day).refusal("d")
         self.assertEqual((row.nodes, word.nodes), ((("none", None), ("number", 1), ("a", (0, 1))),
                                                    (("none", None), ("word", "missing"), ("a", (0, 1)))))

@@ -133,6 +133,16 @@ class NodesTest(unittest.TestCase):
         rows = [("let", "v", "n"), ("if", ("=", MORE, 1), [("let", "v", 1)], [])]
         self.assertEqual(self.place(*rows), ("go", 2))
         self.assertEqual(self.place(("each", "r", "t", ()), *rows), ("go", 3))
+        # Where the saying has stopped at this very row the local has no value any more.
+        stop = ("when", ("chosen", "z", 1), "nix", 0)
+        self.assertIsNone(self.place(("let", "v", "n"), ("let", "v", stop)))
+        self.assertEqual(self.place(("let", "v", "n"), ("if", ("chosen", "z", 1), [], [("let", "v", 0)])), ("go", 2))
+        # Where a world does not take a turn, and behind the loop.
+        day = base().with_row("t", 1, (0,), only=[("z", 0)])
+        for name, row in (("r", None), ("v", 3)):
+            turn = ("each", "r", "t", [("let", name, 0), ("tell", 1)])
+            wanted = None if row is None else ("go", 2)
+            self.assertEqual(self.place(("let", name, "n"), turn, day=day), wanted)
         # Each saying has its own locals.
         day = base().with_deed(Deed("go", [[("let", "v", "n")], [("if", ("=", MORE, 1), [("let", "v", 1)], [])]], "c0"))
         self.assertIsNone(place_of(day))
@@ -146,6 +156,19 @@ class NodesTest(unittest.TestCase):
         self.assertEqual(self.place(("if", ("<", 99, ("+", "n", MORE)), [], [])), ("go", 0))
         self.assertEqual(self.place(("need", ("<", ("+", "n", MORE), 99))), ("go", 0))
         self.assertIsNone(self.place(("need", ("<", ("+", "n", LESS), 99)), ("need", ("<", "n", 99))))
+
+    def test_where_expressions_are_evaluated(self):
+        """Only where the ones ahead have no fault."""
+        late = ("when", ("chosen", "z", 1), ("+", "n", ("+", "n", MORE)), 0)
+        stop = ("when", ("chosen", "z", 1), "nix", 0)
+        for row in (("insert", "t", stop, (late,)), ("insert", "u", 0, (stop, late)), ("change", "t", stop, "a", late),
+                    ("tell", ("+", stop, late)), ("tell", ("call", "f", stop, late))):
+            day = base().with_table("u", ("a", "b")).with_rule("f", ("v", "w"), 1)
+            self.assertIsNone(self.place(row, day=day))
+        day = base().with_rule("f", ("v",), late)
+        self.assertIsNone(self.place(("tell", ("call", "f", stop)), day=day))
+        self.assertEqual(self.place(("tell", ("call", "f", 0)), day=day), ("go", 0))
+        self.assertEqual(self.place(("insert", "t", 0, (late,))), ("go", 0))
 
     def test_bodies_of_rules(self):
         day = base().with_rule("f", ("v",), ("<", ("+", "n", ("my", "v")), 99))
@@ -186,6 +209,10 @@ class NodesTest(unittest.TestCase):
         day = day.with_deed(Deed("y", [[("if", odd, [("put", "y", 1)], [])]]))
         self.assertEqual(place_of(day.with_deed(Deed("go", [[("tell", ("has", "x")), ("need", ("has", "y")), ("drop", "x")]]))), ("go", 2))
         self.assertIsNone(place_of(day.with_deed(Deed("go", [[("tell", ("has", "x")), ("need", ("has", "y"))]]))))
+        # A row without expressions, in a loop over a row that stands in some worlds.
+        day = day.with_table("u", ("a",)).with_deed(Deed("row", [[("if", ("has", "y"), [("insert", "t", 1, (0,))], [])]]))
+        rows = [("need", ("has", "x")), ("each", "r", "t", [("each", "s", "u", [])])]
+        self.assertEqual(place_of(day.with_deed(Deed("go", [rows]))), ("go", 2))
         # What has stopped the sayings, and the other way round.
         self.assertEqual(place_of(day.with_deed(Deed("go", [[("need", ("has", "y")), ("tell", 1), ("need", ("has", "x"))]]))), ("go", 2))
 
@@ -201,6 +228,12 @@ class NodesTest(unittest.TestCase):
         self.assertEqual(place_of(day.with_deed(Deed("go", longer, "y"))), ("go", 5))
         self.assertEqual(place_of(day.with_deed(Deed("go", [rows * 2, [("tell", 1)]], "y"))), ("go", 10))
         self.assertIsNone(place_of(day.with_deed(Deed("go", [[("put", "x", 2), ("need", YES)]]))))
+        # A part of a row, and where a row stands.
+        day = base().with_row("t", 1, (5,)).with_deed(Deed("x", [[("if", even, [("change", "t", 1, "a", 6)], [])]]))
+        self.assertEqual(place_of(day.with_deed(Deed("go", [[("change", "t", 1, "a", 2), ("need", odd)]]))), ("go", 2))
+        day = base().with_deed(Deed("x", [[("if", even, [("insert", "t", 1, (5,))], [])]]))
+        gone = [("each", "r", "t", [("delete", "t", ("my", "r"))]), ("need", odd)]
+        self.assertEqual(place_of(day.with_deed(Deed("go", [gone]))), ("go", 3))
 
     def test_first_row(self):
         """Of several rows the one that is come to first in the run, by ascending options."""
@@ -241,6 +274,8 @@ class KeysTest(unittest.TestCase):
             self.assertEqual(self.place(self.day(17), first, ("tell", 1)), ("go", 0))
         self.assertEqual(self.place(self.day(17), ("if", ("chosen", "a", 0), [("delete", "t", 0)], [])), ("go", 0))
         self.assertEqual(self.place(self.day(17)), ("go", 0))
+        nowhere = Deed("go", [[("tell", 1), ("tell", 2)]], only=[("b", 0), ("b", 1)])
+        self.assertEqual(place_of(self.day(17).with_deed(nowhere)), ("go", 2))
         # A row that stands in no world does not count.
         day = self.day(16).with_row("t", 50, (0,), only=[("a", 0), ("a", 1)])
         self.assertIsNone(self.place(day, ("tell", 1)))
