@@ -2,7 +2,7 @@
 
 from hadnot.choices import Choices
 from hadnot.errors import InvalidDeed, InvalidName, Opened, Taken, UnknownName, Unready
-from hadnot.phrases import with_tuples
+from hadnot.phrases import many_rows, with_tuples
 from hadnot.ready import unready_things
 from hadnot.values import is_name
 
@@ -32,6 +32,16 @@ class Deed:
         made = Deed(self.name, self.sayings, self.choice, self.only)
         made.opened = option
         return made
+
+    def with_only(self, only):
+        """This deed in the worlds that have all options of other pairs."""
+        return Deed(self.name, self.sayings, self.choice, only).with_opened(self.opened)
+
+    def row_choices(self):
+        """The choices of the rows of the saying that is opened, in the order of the rows."""
+        if self.opened is None:
+            return []
+        return [f"{self.name}.{row}" for row in range(many_rows(self.sayings[self.opened]))]
 
 
 class Day:
@@ -264,6 +274,15 @@ class Day:
             for where, name in unready_things(self):
                 raise Unready(where, name)
         return self
+
+
+def remade(day, choices, standing, prices, deeds):
+    """A day with other choices and deeds, if all that it names is there."""
+    made = day._copy()
+    made.choices = choices
+    made._standing = dict(standing)
+    made._prices = dict(prices)
+    return made._with_deeds(deeds)
 
 
 def draft():

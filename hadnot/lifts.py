@@ -96,6 +96,21 @@ class Lift:
             raise Unready("", name)
         return found_in(question, self._scene(place))
 
+    def slot_nodes(self, behind):
+        """From each cell, and from each table, key and part, to its node behind a deed."""
+        sheet = self._sheets[place_behind(self.day, behind)]
+        parts_of = self.day.all_tables
+        nodes = dict(sheet.cells)
+        for table, rows in sheet.tables.items():
+            for key, (_, parts) in rows.items():
+                for part, node in zip(parts_of[table], parts):
+                    nodes[table, key, part] = node
+        return nodes
+
+    def worth_of(self, node):
+        """The worth of a node that slot_nodes tells."""
+        return self._pool.worth(node)
+
     def _scene(self, place):
         return LiftScene(self.day, self._pool, self._sheets[place], self._were_done)
 

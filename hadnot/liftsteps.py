@@ -10,11 +10,13 @@ from hadnot.phrases import numbered
 class LiftDoing:
     """One saying that runs, in the worlds in which it does."""
 
-    def __init__(self, scene, runs, stop):
+    def __init__(self, scene, runs, stays, stop):
         self.scene = scene
         self.pool = scene.pool
         self.sheet = scene.sheet
         self.runs = runs
+        # From the numbers of rows that may be left out to where they are not.
+        self.stays = stays
         # The pairs of row and word that have stopped the sayings of the deed so far.
         self.stop = stop
         self.local = {}
@@ -26,7 +28,7 @@ class LiftDoing:
     def go(self, rows, here):
         """Run rows, as hadnot.phrases numbers them, in some worlds."""
         for number, row, blocks in rows:
-            come = self.unstopped(here)
+            come = self.pool.crossed("both", self.unstopped(here), self.stays.get(number, TRUE))
             if come != FALSE:
                 self.scene.row = number
                 self.scene.look(come)
@@ -222,7 +224,10 @@ def lift_deed(deed, there, scene):
             many = len(deed.sayings)
             chosen = pool.by_choice(deed.choice, [at == option for at in range(many)])
             runs = pool.crossed("both", there, chosen)
-        doing = LiftDoing(scene, runs, stop)
+        stays = {}
+        if option == deed.opened:
+            stays = {row: pool.by_choice(name, (True, False)) for row, name in enumerate(deed.row_choices())}
+        doing = LiftDoing(scene, runs, stays, stop)
         doing.go(numbered(saying), runs)
         stop = doing.stop
         tellings.extend(doing.tellings)

@@ -5,6 +5,7 @@ from hadnot.phrases import EXPRESSIONS
 from hadnot.values import is_choice_name, is_decimal, is_name
 
 MOST_DIGITS = 18
+MOST_NUMBER = 10 ** 18 - 1
 # Behind MANY at most 9 expressions stand, and options are below 4.
 MOST_MANY = 9
 MOST_OPTION = 3
@@ -30,6 +31,13 @@ class Line:
     def ahead(self):
         """The next word, which is not taken yet; None at the end."""
         return self.words[self.taken] if self.taken < len(self.words) else None
+
+    def rest(self):
+        """All words that are left, as a text; there is one at least."""
+        self.check(self.taken < len(self.words))
+        text = " ".join(self.words[self.taken:])
+        self.taken = len(self.words)
+        return text
 
     def check(self, holds):
         """Refuse the line unless something holds."""

@@ -1,6 +1,6 @@
 """Runs of a day in one world."""
 
-from hadnot.scenes import Page
+from hadnot.scenes import Page, Scene
 from hadnot.steps import Ending, ended
 from hadnot.views import View
 
@@ -15,8 +15,11 @@ def run(day, world):
         page = pages[-1]
         ending = Ending(False, False, (), None)
         if has_options(full, deed.only):
-            saying = deed.sayings[0 if deed.choice is None else full[deed.choice]]
-            page, ending = ended(saying, day, full, page, were_done)
+            option = 0 if deed.choice is None else full[deed.choice]
+            scene = Scene(day, full, page.copied(), were_done)
+            ending = ended(deed.sayings[option], left_out(deed, option, full), scene)
+            if ending.fault is None:
+                page = scene.page
         pages.append(page)
         endings[deed.name] = ending
         if ending.was_done:
@@ -38,6 +41,13 @@ def beginning(day, world):
         if has_options(world, only):
             tables[table][key] = values
     return Page(cells, tables)
+
+
+def left_out(deed, option, world):
+    """The numbers of the rows that are left out of the saying of a deed for an option, as the keys of a dict."""
+    if deed.opened != option:
+        return {}
+    return {row: True for row, name in enumerate(deed.row_choices()) if world[name] == 1}
 
 
 def has_options(world, pairs):

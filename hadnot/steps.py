@@ -3,14 +3,15 @@
 from hadnot.faults import Fault
 from hadnot.operations import MISSING, NEED, THERE
 from hadnot.phrases import numbered
-from hadnot.scenes import Scene, evaluated, only_truth, unless_truth
+from hadnot.scenes import evaluated, only_truth, unless_truth
 
 
 class Doing:
-    """One saying that runs, on a page of its own."""
+    """One saying that runs on the page of a scene, but for rows that are left out."""
 
-    def __init__(self, scene):
+    def __init__(self, scene, left):
         self.scene = scene
+        self.left = left
         self.page = scene.page
         self.local = {}
         self.tellings = []
@@ -20,9 +21,10 @@ class Doing:
     def go(self, rows):
         """Run rows, as hadnot.phrases numbers them."""
         for number, row, blocks in rows:
-            self.row = number
-            effect = EFFECTS[row[0]]
-            effect(row, blocks, self)
+            if number not in self.left:
+                self.row = number
+                effect = EFFECTS[row[0]]
+                effect(row, blocks, self)
 
     def result(self, expression):
         """The value of an expression."""
@@ -125,11 +127,11 @@ class Ending:
         self.fault = fault
 
 
-def ended(saying, day, world, page, were_done):
-    """The page behind a saying, and its ending."""
-    doing = Doing(Scene(day, world, page.copied(), were_done))
+def ended(saying, left, scene):
+    """How a saying ends on the page of a scene, but for rows that are left out."""
+    doing = Doing(scene, left)
     try:
         doing.go(numbered(saying))
     except Fault as fault:
-        return page, Ending(True, False, (), (doing.row, fault.reason))
-    return doing.page, Ending(True, len(saying) > 0, tuple(doing.tellings), None)
+        return Ending(True, False, (), (doing.row, fault.reason))
+    return Ending(True, len(saying) > 0, tuple(doing.tellings), None)

@@ -95,15 +95,37 @@ def random_table(choices, values, seed):
     return lambda world: table[tuple((name, world[name]) for name in choices.names)]
 
 
-def opened_day(day, name, option, many):
-    """A day in which a saying of a deed is opened: its rows have choices."""
-    made = day._copy()
-    for row in range(many):
-        choice = f"{name}.{row}"
-        made.choices = made.choices.put(choice, 2)
-        made._standing = {**made._standing, choice: 0}
-        made._prices = {**made._prices, choice: (1, 1)}
-    return made._with_deeds([deed.with_opened(option) if deed.name == name else deed for deed in day.deeds])
+def pairs_between(choices, world, standing):
+    return tuple((name, world[name]) for name in choices.names if world[name] != standing[name])
+
+
+def place(choices, pairs):
+    """By what rows of pairs are ordered."""
+    return len(pairs), [(choices.number(name), option) for name, option in pairs]
+
+
+def rows_of(worth, standing):
+    """The rows of pairs of all worlds, in order, with the values there."""
+    choices = worth.choices
+    rows = [(pairs_between(choices, world, standing), worth(world)) for world in all_worlds(choices)]
+    return sorted(rows, key=lambda row: place(choices, row[0]))
+
+
+def random_worths(many, seed):
+    """Worths over few choices with few or many values, and worlds that stand."""
+    rows = random.Random(seed)
+    for at in range(many):
+        names = rows.sample(["d", "a", "c", "b", "e"], rows.randrange(0, 5))
+        choices = choices_of(**{name: rows.choice((2, 2, 3, 4)) for name in names})
+        if rows.random() < 0.3 and names:
+            choices = choices.without(rows.choice(names)).put("z", 2)
+        values = rows.choice(((True, False), (True, False, False, False), (0, 1, True), VALUES, (None, 5, 5, 5, 5, 5)))
+        worth = worth_of(choices, random_table(choices, values, at))
+        yield worth, rows.choice(all_worlds(choices))
+
+
+def many_choices(many):
+    return choices_of(**{f"c{at}": 2 for at in range(many)})
 
 
 def told_of(day):
@@ -111,3 +133,34 @@ def told_of(day):
     return (day.choices.names, [(day.choices[name], day.choices.number(name)) for name in day.choices.names],
             day.standing, day.prices, day.all_tables, day.all_cells, day.all_rows, day.rules, day.names,
             [(deed.name, deed.sayings, deed.choice, deed.only, deed.opened) for deed in day.deeds])
+
+
+class Knots:
+    """Worths over a few choices each, and their sum or the like over all of these."""
+
+    def __init__(self, seed, sizes, values):
+        rows = random.Random(seed)
+        names = [[f"k{knot}c{at}" for at in range(size)] for knot, size in enumerate(sizes)]
+        options = {name: rows.choice((2, 2, 2, 3)) for knot in names for name in knot}
+        self.choices = choices_of(**options)
+        self.alone = []
+        self.spread = []
+        for at, knot in enumerate(names):
+            choices = choices_of(**{name: options[name] for name in knot})
+            told = random_table(choices, values, (seed + 1) * 1000 + at)
+            self.alone.append(worth_of(choices, told))
+            self.spread.append(worth_of(self.choices, lambda world: told({name: world[name] for name in knot}),
+                                        order=knot))
+        self.standing = {name: rows.randrange(options[name]) for name in options}
+        self.prices = {name: tuple(rows.choice((0, 1, 1, 2, 10 ** 9)) for _ in range(options[name]))
+                       for name in options if rows.random() < 0.8}
+
+    def worlds(self):
+        """The parts of the standing world, knot by knot."""
+        return [{name: self.standing[name] for name in worth.choices.names} for worth in self.alone]
+
+    def joined(self, sign):
+        total = self.spread[0]
+        for worth in self.spread[1:]:
+            total = total + worth if sign == "+" else total & worth if sign == "&" else total | worth
+        return total

@@ -6,7 +6,8 @@ import unittest
 from hadnot.choices import Choices
 from hadnot.days import Day, Deed
 from hadnot.errors import InvalidDeed, InvalidName, Opened, Taken, UnknownName, Unready
-from helpers import choices_of, opened_day, told_of
+from hadnot.opened import closed, opened
+from helpers import choices_of, told_of
 
 NO_NAMES = ("", "abcdefg", "A", "1a", "a b", "a.1", "pay.0", "\u00e9", "a\n")
 SAYING = (("put", "cash", ("-", "cash", 4)),)
@@ -138,7 +139,7 @@ class DayTest(RaisesTest):
         for name in NO_NAMES:
             self.named(InvalidName, name, day.with_choice, name, 2)
         self.named(Taken, "a", day.with_choice, "a", 3)
-        self.named(InvalidName, "a.1", opened_day(example(), "pay", 0, 0).with_choice, "a.1", 2)
+        self.named(InvalidName, "a.1", opened(example(), "pay").with_choice, "a.1", 2)
         self.assertRaises(TypeError, day.with_choice, "c", 2, (1, 1))
 
     def test_choice_numbers(self):
@@ -258,7 +259,7 @@ class DayTest(RaisesTest):
 
 class OpenedTest(RaisesTest):
     def test_opened(self):
-        day = opened_day(example(), "shop", 1, 2)
+        day = opened(example().stands("buy", 1), "shop")
         self.assertEqual(day["shop"].opened, 1)
         self.assertIsNone(day["pay"].opened)
         self.assertEqual(day.choices.names, ("tip", "buy", "shop.0", "shop.1"))
@@ -271,26 +272,25 @@ class OpenedTest(RaisesTest):
         self.named(UnknownName, "pay.0", day.without_choice, "pay.0")
 
     def test_stays_opened(self):
-        day = opened_day(example(), "shop", 1, 2)
-        for later in (day.moved("shop", 0), day.stands("buy", 1), day.stands("shop.0", 1), day.with_cell("z", 1),
+        day = opened(example().stands("buy", 1), "shop")
+        for later in (day.moved("shop", 0), day.stands("buy", 0), day.stands("shop.0", 1), day.with_cell("z", 1),
                       day.with_saying("pay", 0, SAYING), day.without_deed("pay"), day.with_deed(Deed("a", ((),)), 0)):
             self.assertEqual(later["shop"], day["shop"])
             self.assertEqual(later["shop"].opened, 1)
 
     def test_choices_of_rows_may_be_named(self):
-        day = opened_day(example(), "shop", 1, 2)
+        day = opened(example().stands("buy", 1), "shop")
         day = day.with_cell("z", (1, 2), choice="shop.0").with_deed(Deed("a", ((), ()), "shop.1", (("shop.0", 1),)))
         day = day.with_rule("f", (), ("chosen", "shop.1", 1))
         self.raises(Unready, {"where": "g", "name": "shop.2"}, day.with_rule, "g", (), ("chosen", "shop.2", 0))
         self.named(Opened, "shop", day.without_choice, "shop.0")
 
     def test_other_choices_may_be_left_out(self):
-        day = opened_day(example().with_choice("shop", 2), "shop", 1, 2)
+        day = opened(example().with_choice("shop", 2).stands("buy", 1), "shop")
         self.assertNotIn("shop", day.without_choice("shop").choices)
-        # Only the choices of a deed that is opened stay.
-        closed = day._with_deeds([deed.with_opened(None) for deed in day.deeds])
-        self.assertNotIn("shop.1", closed.without_choice("shop.1").choices)
-        self.assertNotIn("shop.1", closed.without_deed("shop").without_choice("shop.1").choices)
+        self.named(Opened, "shop", day.without_choice, "shop.1")
+        # Behind this its choices are gone.
+        self.named(UnknownName, "shop.1", closed(day, "shop").without_choice, "shop.1")
 
 
 class EqualTest(RaisesTest):
@@ -315,13 +315,20 @@ class EqualTest(RaisesTest):
             day.without_row("u", "k"), day.with_rule("h", (), 1), day.with_deed(Deed("z", ((),))),
             day.without_deed("last"), day.moved("shop", 0), day.with_saying("last", 0, ()), day.with_saying("pay", 0, SAYING),
             day.without_deed("last").with_deed(Deed("last", deed.sayings, None, (("c", 1),))),
-            day.without_deed("last").with_deed(Deed("last", deed.sayings)), opened_day(day, "last", 0, 0),
+            day.without_deed("last").with_deed(Deed("last", deed.sayings)), opened(day, "last"),
             day.without_deed("last").without_rule("g").without_rule("f").with_rule("g", (), 1),
         )
         for at, other in enumerate(others):
             self.assertIs(day == other, False, at)
             self.assertTrue(day != other, at)
             self.assertIs(other == day, False, at)
+
+    def test_opened(self):
+        """A saying without rows may be opened, too: only this tells the days apart."""
+        day = full_day().with_saying("last", 0, ())
+        self.assertEqual(told_of(opened(day, "last"))[:-1], told_of(day)[:-1])
+        self.assertIs(opened(day, "last") == day, False)
+        self.assertIs(opened(day, "last") == opened(day, "last"), True)
 
     def test_prices_of_standing_options(self):
         one, other = (Day().with_choice("c", 2, prices=prices) for prices in ((0, 5), (1, 5)))

@@ -215,6 +215,19 @@ class FormTest(unittest.TestCase):
                 for mark in node.decorator_list:
                     self.assertIn(ast.unparse(mark), ("property", "staticmethod", "classmethod"))
 
+    def test_contexts(self):
+        """What leaves a context only puts back what it has kept: it asks nothing."""
+        found = 0
+        for name, node in NODES:
+            if isinstance(node, ast.FunctionDef) and node.name == "__exit__":
+                found += 1
+                self.assertEqual([arg.arg for arg in node.args.args], ["self", "kind", "value", "trace"])
+                for row in node.body:
+                    self.assertIsInstance(row, ast.Assign, (name, row.lineno))
+                    self.assertIsInstance(row.targets[0], ast.Attribute, (name, row.lineno))
+                    self.assertIsInstance(row.value, ast.Attribute, (name, row.lineno))
+        self.assertEqual(found, 1)
+
     def test_errors(self):
         own = {node.name for file in ("errors.py", "faults.py") for node in SOURCES[file][1].body
                if isinstance(node, ast.ClassDef)}
@@ -249,7 +262,7 @@ class PureTest(unittest.TestCase):
                         target = call.func
                         called = target.id if isinstance(target, ast.Name) else target.attr
                         graph[word] |= {"Worth" if called == "cls" else called} & set(named)
-        signs = {word for word in named if word.startswith("__") and word != "__call__"}
+        signs = {word for word in named if word.startswith("__")} - {"__call__", "__enter__", "__exit__"}
         for _, node in NODES:
             if isinstance(node, ast.FunctionDef) and node.decorator_list:
                 if ast.unparse(node.decorator_list[0]) == "property":

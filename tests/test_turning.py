@@ -2,7 +2,6 @@
 
 import itertools
 import math
-import random
 import unittest
 
 from hadnot.days import Day, Deed
@@ -11,23 +10,7 @@ from hadnot.lifts import Lift
 from hadnot.supports import support
 from hadnot.turning import count_turning, turning_sets
 from hadnot.worths import Worth
-from helpers import VALUES, all_worlds, choices_of, random_table, same, worth_of
-
-
-def pairs_between(choices, world, standing):
-    return tuple((name, world[name]) for name in choices.names if world[name] != standing[name])
-
-
-def place(choices, pairs):
-    """By what rows of pairs are ordered."""
-    return len(pairs), [(choices.number(name), option) for name, option in pairs]
-
-
-def rows_of(worth, standing):
-    """The rows of pairs of all worlds, in order, with the values there."""
-    choices = worth.choices
-    rows = [(pairs_between(choices, world, standing), worth(world)) for world in all_worlds(choices)]
-    return sorted(rows, key=lambda row: place(choices, row[0]))
+from helpers import VALUES, choices_of, many_choices, place, random_worths, rows_of, same, worth_of
 
 
 def turning_by_hand(worth, standing):
@@ -47,29 +30,12 @@ def support_by_hand(worth, standing, pair):
     return None
 
 
-def random_worths(many, seed):
-    """Worths over few choices with few or many values, and worlds that stand."""
-    rows = random.Random(seed)
-    for at in range(many):
-        names = rows.sample(["d", "a", "c", "b", "e"], rows.randrange(0, 5))
-        choices = choices_of(**{name: rows.choice((2, 2, 3, 4)) for name in names})
-        if rows.random() < 0.3 and names:
-            choices = choices.without(rows.choice(names)).put("z", 2)
-        values = rows.choice(((True, False), (True, False, False, False), (0, 1, True), VALUES, (None, 5, 5, 5, 5, 5)))
-        worth = worth_of(choices, random_table(choices, values, at))
-        yield worth, rows.choice(all_worlds(choices))
-
-
 def threshold(choices, least):
     """Whether at least so many choices have option 1; and the worth of their number."""
     total = Worth(choices, 0)
     for name in choices.names:
         total = total + Worth.by(choices, name, (0, 1))
     return ~total.below(Worth(choices, least)), total
-
-
-def many_choices(many):
-    return choices_of(**{f"c{at}": 2 for at in range(many)})
 
 
 class TurningTest(unittest.TestCase):

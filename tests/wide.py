@@ -23,10 +23,10 @@ def nodes(values, many):
 
 
 class Trace:
-    """The run of one deed in one world."""
+    """The run of one deed in one world, but for rows that are left out."""
 
-    def __init__(self, day, world, book, done):
-        self.day, self.world, self.done = day, world, done
+    def __init__(self, day, world, book, done, left=()):
+        self.day, self.world, self.done, self.left = day, world, done, left
         self.rules = {name: (params, body) for name, params, body in day.rules}
         self.cells = dict(book[0])
         self.tables = {table: dict(rows) for table, rows in book[1].items()}
@@ -52,9 +52,10 @@ class Trace:
 
     def go(self, rows, number, keys):
         for row in rows:
-            self.place = (number, keys)
-            self.seen[self.place] = {}
-            self.do(row, number, keys)
+            if number not in self.left:
+                self.place = (number, keys)
+                self.seen[self.place] = {}
+                self.do(row, number, keys)
             number += length(row)
 
     def close(self):
@@ -241,7 +242,8 @@ class Wide:
             for at, world in enumerate(self.worlds):
                 if all(world[name] == value for name, value in deed.only) and (
                         deed.choice is None or world[deed.choice] == option):
-                    self.traces[at] = Trace(self.day, world, start[at], done[at]).run(saying)
+                    left = [row for row in range(60) if deed.opened == option and world.get(f"{deed.name}.{row}") == 1]
+                    self.traces[at] = Trace(self.day, world, start[at], done[at], left).run(saying)
             self.locals = {at: {} for at in self.traces}
             self.around = []
             self.walk(saying, 0, ())
