@@ -2,7 +2,7 @@
 
 from hadnot.errors import TooWide
 from hadnot.leaves import FALSE, TRUE
-from hadnot.pools import Pool
+from hadnot.pools import MOST_NODES, Pool
 
 
 def turning_sets(worth, standing):
@@ -48,27 +48,89 @@ def steps_below(node, pairs, world, pool):
 def turning_node(worth, world, pool):
     """Where a world is that of a turning set: it turns the answer, and no lesser set of choices does."""
     turned = pool.crossed("minus", TRUE, pool.crossed("is", pool.entered(worth), pool.of_value(worth(world))))
-    reached = reaching(turned, world, pool)
-    if pool.is_wide(reached):
-        raise TooWide("", 0)
+    reached = Reaching(world, pool).node_of(turned)
     levels = [worth.choices.names.index(name) for name in worth.depends]
     return pool.crossed("minus", turned, Lessening(world, pool, levels).node_of(reached, 0))
 
 
-def reaching(turned, world, pool):
-    """Where some world that differs only in choices that differ here, too, turns the answer."""
-    done = {FALSE: FALSE, TRUE: TRUE}
-    for node in pool.drawn_below(turned):
-        if node not in done:
-            level = pool.levels[node]
-            standing = world[pool.choices.names[level]]
-            below = [done[lower] for lower in pool.under[node]]
-            some = FALSE
-            for lower in below:
-                some = pool.crossed("either", some, lower)
-            done[node] = pool.branch(level, tuple([
-                lower if option == standing else some for option, lower in enumerate(below)]))
-    return done[turned]
+class Reaching:
+    """Where some world that differs only in choices that differ here, too, comes to True below a node.
+
+    What several nodes reach together is made from above, choice by choice: each node
+    that is made then stands in the whole, so that it is known early if this is too wide.
+    """
+
+    def __init__(self, world, pool):
+        self.pool = pool
+        self.options = [world[name] for name in pool.choices.names]
+        # From nodes to what they reach, None if this is too wide: it may be less so together with others.
+        self.alone = {FALSE: FALSE, TRUE: TRUE}
+        # What was made of some nodes, and of what others reach.
+        self.made = {}
+        # The nodes that stand in the whole.
+        self.found = {}
+
+    def node_of(self, top):
+        """The node of what a node reaches; TooWide if it has too many nodes."""
+        for node in self.pool.drawn_below(top):
+            if node not in self.alone:
+                self.alone[node] = self.unless_wide(node)
+        if self.alone[top] is None:
+            raise TooWide("", 0)
+        return self.alone[top]
+
+    def unless_wide(self, node):
+        """The node of what a node reaches, or None."""
+        self.found = {}
+        try:
+            return self.together((node,), ())
+        except TooWide:
+            return None
+
+    def together(self, nodes, others):
+        """The node of what some nodes reach, or what others have reached already."""
+        others = [*others, *[self.alone[node] for node in nodes if self.alone.get(node) is not None]]
+        if TRUE in others:
+            return self.find(TRUE)
+        nodes = sorted(set([node for node in nodes if self.alone.get(node) is None]))
+        others = sorted(set(others) - {FALSE})
+        if not nodes and len(others) < 2:
+            return self.find(others[0] if others else FALSE)
+        key = (tuple(nodes), tuple(others))
+        if key not in self.made:
+            self.made[key] = self.branched(nodes, others)
+        return self.find(self.made[key])
+
+    def branched(self, nodes, others):
+        """The node of the uppermost choice of some nodes."""
+        pool = self.pool
+        level = min([pool.levels[node] for node in [*nodes, *others]])
+        many = pool.choices[pool.choices.names[level]]
+        standing = self.options[level]
+        steps = []
+        # With all options that do not stand the same is reached.
+        for option in (standing, 1 if standing == 0 else 0):
+            below, beside = [], []
+            for node in nodes:
+                under = pool.under[node] if pool.levels[node] == level else (node,) * many
+                below.extend([under[standing]] if option == standing else under)
+            for node in others:
+                beside.append(pool.under[node][option] if pool.levels[node] == level else node)
+            steps.append(self.together(below, beside))
+        same, turned = steps
+        return pool.branch(level, tuple([same if option == standing else turned for option in range(many)]))
+
+    def find(self, node):
+        """A node that stands in the whole, with all below it; TooWide if these are too many."""
+        waiting = [node]
+        while waiting:
+            at = waiting.pop()
+            if at not in self.found:
+                self.found[at] = True
+                waiting.extend(self.pool.under[at])
+        if len(self.found) > MOST_NODES:
+            raise TooWide("", 0)
+        return node
 
 
 class Lessening:

@@ -2,7 +2,9 @@
 
 import itertools
 import math
+import random
 import unittest
+from unittest import mock
 
 from hadnot.days import Day, Deed
 from hadnot.errors import TooWide
@@ -10,7 +12,7 @@ from hadnot.lifts import Lift
 from hadnot.supports import support
 from hadnot.turning import count_turning, turning_sets
 from hadnot.worths import Worth
-from helpers import VALUES, choices_of, many_choices, place, random_worths, rows_of, same, worth_of
+from helpers import VALUES, choices_of, drawn, many_choices, place, random_worths, rows_of, same, worth_of
 
 
 def turning_by_hand(worth, standing):
@@ -133,6 +135,57 @@ class TurningTest(unittest.TestCase):
         for name in worth.choices.names[:12]:
             parity = parity.same(Worth.by(worth.choices, name, (True, False)))
         self.assertEqual(count_turning(parity, {}), 12)
+
+    def test_small_bounds(self):
+        """The nodes of what is reached count, those of the worth and of the turning sets do not."""
+        seen = {True: 0, False: 0}
+        for worth, standing in random_worths(200, 4):
+            turned = [{name for name, _ in pairs} for pairs, value in rows_of(worth, standing) if not same(value, worth(standing))]
+
+            def reached(world):
+                differing = {name for name in world if world[name] != standing[name]}
+                return any(names <= differing for names in turned)
+
+            many = len(drawn(worth.choices, reached))
+            for most in range(1, 16):
+                with mock.patch("hadnot.turning.MOST_NODES", most):
+                    for work in (count_turning, lambda *parts: list(turning_sets(*parts))):
+                        try:
+                            work(worth, standing)
+                            wide = False
+                        except TooWide:
+                            wide = True
+                        self.assertIs(wide, many > most, (worth.nodes, standing, most))
+                seen[wide] += 1
+        self.assertGreater(min(seen.values()), 300)
+
+    def test_far_too_wide(self):
+        """Of 64 terms each is narrow, and so is the worth: all together they are not."""
+        rows = random.Random(7)
+        choices = choices_of(t0=4, t1=4, t2=4, **{f"c{at}": 2 for at in range(37)})
+
+        def term(level):
+            if level < 3:
+                worth = Worth(choices, None)
+                for option in range(4):
+                    here = Worth.by(choices, f"t{level}", [at == option for at in range(4)])
+                    worth = here.when(term(level + 1), worth)
+                return worth
+            worth = Worth(choices, True)
+            for at in sorted(rows.sample(range(37), 4)):
+                worth = worth & Worth.by(choices, f"c{at}", (False, True))
+            return worth
+
+        worth = term(0)
+        self.assertLessEqual(len(worth), 300)
+        with self.assertRaises(TooWide):
+            count_turning(worth, {})
+        # If one choice is enough, what is reached with it is narrow, however wide its options are together.
+        for name in ("t0", "t1"):
+            worth = worth | Worth.by(choices, name, (False, True, False, False))
+        rows = list(turning_sets(worth, {}))
+        self.assertEqual(rows[:2], [(("t0", 1),), (("t1", 1),)])
+        self.assertEqual(len(rows), count_turning(worth, {}))
 
     def test_arguments(self):
         choices = choices_of(a=2, b=2)
