@@ -7,7 +7,7 @@ from hadnot.choices import Choices
 from hadnot.errors import UnknownName
 from hadnot.hidden import free_set, to_show
 from hadnot.worths import Worth
-from helpers import VALUES, Knots, choices_of, many_choices, place, random_worths, rows_of, same, worth_of
+from helpers import VALUES, Knots, choices_of, many_choices, random_worths, rows_of, same, worth_of
 
 
 class ByHand:

@@ -11,6 +11,14 @@ FUNCTIONS = {
     "turning": ("turning_sets(worth, standing)", "count_turning(worth, standing)"),
     "supports": ("support(worth, standing, pair)",),
     "shares": ("shares(worth, start, end)",),
+    "wishes": ("cheapest(worth, standing, prices)",),
+    "hidden": ("free_set(worth, standing)", "to_show(worth, standing, seen)"),
+    "papers": ("turning_holds(worth, standing, pairs)", "support_holds(worth, standing, pair, pairs)",
+               "price_paper(worth, standing, prices)", "price_holds(worth, standing, prices, price, paper)",
+               "free_holds(worth, standing, names, worlds)", "shown_holds(worth, standing, seen, told)"),
+    "opened": ("opened(day, deed)", "closed(day, deed)"),
+    "meeting": ("met(one, other, name)",),
+    "changes": ("changes(one, other)",),
     "saytexts": ("show_expression(expression)", "show_saying(saying)", "read_expression(text)", "read_saying(text)"),
 }
 CLASSES = {
@@ -45,6 +53,10 @@ CLASSES = {
                    "is_there(self, deed)", "done(self, deed)", "refusal(self, deed)", "told(self, deed)",
                    "ask(self, expression, *, behind=None)", "answer(self, question, *, behind=None)"),
     "questions.Found": ("__call__(self, world)", "__len__(self)", "__iter__(self)"),
+    "books.Book": ("__init__(self, day)", "change(self, day)", "undo(self)", "__len__(self)", "view(self, world)",
+                   "tried(self)", "in_trial(self, work)"),
+    "books.Trial": ("__enter__(self)", "__exit__(self, kind, value, trace)", "keep(self)"),
+    "desk.Desk": ("__init__(self)", "say(self, command)", "__len__(self)"),
 }
 
 

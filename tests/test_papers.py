@@ -11,10 +11,9 @@ from hadnot.supports import support
 from hadnot.turning import turning_sets
 from hadnot.wishes import cheapest
 from hadnot.worths import Worth
-from helpers import VALUES, Knots, all_worlds, choices_of, many_choices, pairs_between, random_worths, rows_of, same
-from helpers import worth_of
+from helpers import VALUES, Knots, choices_of, many_choices, random_worths, rows_of, same, worth_of
 from test_turning import turning_by_hand
-from test_wishes import cheapest_by_hand, price_of, random_prices
+from test_wishes import cheapest_by_hand, random_prices
 
 DEEP = ((((((((None, 1), True), "a"), 0), "b"), -1), 2), "told")
 ODD = (None, True, False, 0, 1, -1, 10 ** 300, -10 ** 300, "", "a", "told", "show", "zz zz", (), (1,), ("a", 1), DEEP,
