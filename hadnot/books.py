@@ -6,19 +6,19 @@ from hadnot.plain import run
 
 
 class Book:
-    """A day, its lift, and the days and lifts before each change that can be undone."""
+    """A day, its lift, and the days before the changes that can be undone."""
 
     def __init__(self, day):
         self.day = day
         self.lift = Lift(day)
-        # Pairs of a day and its lift, which a trial keeps: this tuple is exchanged, too.
+        # Lifts are large: those of days before are made again.
         self.before = ()
 
     def change(self, day):
         """Put another day in the place of this one; the changes of the lifts."""
         lift = Lift(day)
         told = changes(self.lift, lift)
-        self.before = (*self.before, (self.day, self.lift))
+        self.before = (*self.before, self.day)
         self.day = day
         self.lift = lift
         return told
@@ -27,7 +27,8 @@ class Book:
         """Go back to the day before the last change; whether there was one."""
         if not self.before:
             return False
-        self.day, self.lift = self.before[-1]
+        self.day = self.before[-1]
+        self.lift = Lift(self.day)
         self.before = self.before[:-1]
         return True
 
@@ -53,28 +54,21 @@ class Trial:
 
     def __init__(self, book):
         self.book = book
-        self.hold(book)
+        # What gets back what the book had when the block was entered.
+        self.holder = book
 
     def __enter__(self):
-        self.hold(self.book)
+        self.day = self.book.day
+        self.lift = self.book.lift
+        self.before = self.book.before
         return self
 
-    def hold(self, book):
-        """Keep what a book has now."""
-        self.day = book.day
-        self.lift = book.lift
-        self.before = book.before
-
     def keep(self):
-        """Let the book be as it is then."""
-        self.book = Forgotten()
+        """Let the book be as it is when the block is left."""
+        # A kept trial gives it back to itself: where a block is left, nothing can be asked.
+        self.holder = self
 
     def __exit__(self, kind, value, trace):
-        # Nothing is asked here: to a book that is kept all this happens elsewhere.
-        self.book.day = self.day
-        self.book.lift = self.lift
-        self.book.before = self.before
-
-
-class Forgotten:
-    """What takes the day of a kept trial, and nobody looks at it."""
+        self.holder.day = self.day
+        self.holder.lift = self.lift
+        self.holder.before = self.before

@@ -91,17 +91,17 @@ class Reaching:
         """The node of what some nodes reach, or what others have reached already."""
         others = [*others, *[self.alone[node] for node in nodes if self.alone.get(node) is not None]]
         if TRUE in others:
-            return self.find(TRUE)
+            return self.noted(TRUE)
         nodes = sorted(set([node for node in nodes if self.alone.get(node) is None]))
         others = sorted(set(others) - {FALSE})
         if not nodes and len(others) < 2:
-            return self.find(others[0] if others else FALSE)
+            return self.noted(others[0] if others else FALSE)
         key = (tuple(nodes), tuple(others))
         if key not in self.made:
-            self.made[key] = self.branched(nodes, others)
-        return self.find(self.made[key])
+            self.made[key] = self.divided(nodes, others)
+        return self.noted(self.made[key])
 
-    def branched(self, nodes, others):
+    def divided(self, nodes, others):
         """The node of the uppermost choice of some nodes."""
         pool = self.pool
         level = min([pool.levels[node] for node in [*nodes, *others]])
@@ -120,7 +120,7 @@ class Reaching:
         same, turned = steps
         return pool.branch(level, tuple([same if option == standing else turned for option in range(many)]))
 
-    def find(self, node):
+    def noted(self, node):
         """A node that stands in the whole, with all below it; TooWide if these are too many."""
         waiting = [node]
         while waiting:

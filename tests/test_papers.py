@@ -1,5 +1,6 @@
 """Papers ([37], [38], [39]): what the package returned, and each small change of it, against the definitions."""
 
+import itertools
 import random
 import unittest
 
@@ -246,6 +247,20 @@ class PapersTest(unittest.TestCase):
                     other = {**worlds, name: pairs}
                     self.check(free_holds(worth, standing, names, other), by_hand.free_holds(names, other), other)
         self.assertGreater(min(self.counts.values()), 300)
+
+    def test_all_sets(self):
+        """Each set of choices, with the first rows of pairs that turn the answer with it."""
+        for worth, standing in random_worths(60, 18):
+            by_hand = ByHand(worth, standing)
+            for many in range(len(worth.choices) + 1):
+                for names in itertools.combinations(worth.choices.names, many):
+                    worlds = {name: next((pairs for pairs in by_hand.turned if {other for other, _ in pairs} <= {name, *names}), ())
+                              for name in worth.choices.names if name not in names}
+                    self.check(free_holds(worth, standing, names, worlds), by_hand.free_holds(names, worlds), (names, worlds))
+                    told = ("show", names, {name: next((pairs for pairs in by_hand.turned if not {other for other, _ in pairs}
+                                                        & {other for other in names if other != name}), ()) for name in names})
+                    self.check(shown_holds(worth, standing, (), told), by_hand.shown_holds((), told), told)
+        self.assertGreater(min(self.counts.values()), 60)
 
     def test_other_free_sets(self):
         """Sets that are made in another order are as good."""

@@ -159,10 +159,10 @@ class TurningTest(unittest.TestCase):
                 seen[wide] += 1
         self.assertGreater(min(seen.values()), 300)
 
-    def test_far_too_wide(self):
-        """Of 64 terms each is narrow, and so is the worth: all together they are not."""
+    def many_terms(self, choices):
+        """The choices t0, t1, t2 tell which one of 64 terms counts; each of these needs four other choices."""
         rows = random.Random(7)
-        choices = choices_of(t0=4, t1=4, t2=4, **{f"c{at}": 2 for at in range(37)})
+        names = [name for name in choices.names if name[0] == "c"]
 
         def term(level):
             if level < 3:
@@ -172,11 +172,16 @@ class TurningTest(unittest.TestCase):
                     worth = here.when(term(level + 1), worth)
                 return worth
             worth = Worth(choices, True)
-            for at in sorted(rows.sample(range(37), 4)):
-                worth = worth & Worth.by(choices, f"c{at}", (False, True))
+            for at in sorted(rows.sample(range(len(names)), 4)):
+                worth = worth & Worth.by(choices, names[at], (False, True))
             return worth
 
-        worth = term(0)
+        return term(0)
+
+    def test_far_too_wide(self):
+        """Each term is narrow, and so is the worth: all together they are not."""
+        choices = choices_of(t0=4, t1=4, t2=4, **{f"c{at}": 2 for at in range(37)})
+        worth = self.many_terms(choices)
         self.assertLessEqual(len(worth), 300)
         with self.assertRaises(TooWide):
             count_turning(worth, {})
@@ -186,6 +191,23 @@ class TurningTest(unittest.TestCase):
         rows = list(turning_sets(worth, {}))
         self.assertEqual(rows[:2], [(("t0", 1),), (("t1", 1),)])
         self.assertEqual(len(rows), count_turning(worth, {}))
+
+    def test_wide_parts(self):
+        """What is too wide alone may be narrow with another part that stands at a later choice."""
+        choices = choices_of(s=3, u=2, y=2, z=2, t0=4, t1=4, t2=4, **{f"c{at}": 2 for at in range(33)})
+        wide = self.many_terms(choices)
+        u, y, z = [Worth.by(choices, name, (False, True)) for name in "uyz"]
+        parts = [Worth(choices, False), y | z & wide & ~u, z | y & wide]
+        for at in (1, 2):
+            here = Worth.by(choices, "s", [option == at for option in range(3)])
+            with self.assertRaises(TooWide):
+                count_turning(here & parts[at], {})
+        worth = Worth(choices, None)
+        for at, part in enumerate(parts):
+            worth = Worth.by(choices, "s", [option == at for option in range(3)]).when(part, worth)
+        self.assertLessEqual(len(worth), 300)
+        self.assertEqual(list(turning_sets(worth, {})), [(("s", 1), ("y", 1)), (("s", 2), ("z", 1))])
+        self.assertEqual(count_turning(worth, {}), 2)
 
     def test_arguments(self):
         choices = choices_of(a=2, b=2)
