@@ -83,13 +83,14 @@ def costs_below(node, costs, least):
 def is_free(worth, world, names):
     """Whether all worlds that differ only in choices with these names have the same value."""
     answer = worth(world)
+    free = {name: True for name in names}
     come = {len(worth.nodes) - 1: True}
     for at in range(len(worth.nodes) - 1, -1, -1):
         if at in come:
             node = worth.nodes[at]
             if is_choice(node):
                 name, below = node
-                steps = below if name in names else (below[world[name]],)
+                steps = below if name in free else (below[world[name]],)
                 for lower in steps:
                     come[lower] = True
             elif not is_same(node[1], answer):
