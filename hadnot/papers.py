@@ -79,7 +79,8 @@ def shown_holds(worth, standing, seen, told):
     if len(told) != 3 or told[0] != "show":
         return False
     _, names, worlds = told
-    if not are_choices(names, choices) or not all([name in worth.depends for name in names]):
+    # Each world of [36] agrees on what is seen, so that none could show why a seen choice is among the names.
+    if not are_choices(names, choices) or not all([name in worth.depends and name in hidden for name in names]):
         return False
     left = [name for name in hidden if name not in names]
     return is_free(worth, world, left) and are_worlds(worlds, names, left, worth, world)

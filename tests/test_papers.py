@@ -56,6 +56,10 @@ def all_pairs(choices):
     return tuple((name, option) for name in choices.names for option in range(choices[name]))
 
 
+def subsets(names):
+    return [some for many in range(len(names) + 1) for some in itertools.combinations(names, many)]
+
+
 def alike(one, other):
     """Whether two values are equal, with the same kinds throughout."""
     if isinstance(one, dict) and isinstance(other, dict):
@@ -129,11 +133,15 @@ class ByHand:
         if type(told) is not tuple or len(told) != 3 or not alike(told[0], "show"):
             return False
         _, names, worlds = told
-        if not self.is_some(names, self.worth.depends):
+        if not self.is_some(names, self.worth.depends) or type(worlds) is not dict or set(worlds) != set(names):
             return False
-        left = [name for name in self.names if name not in (*seen, *names)]
-        return (self.is_free(left) and type(worlds) is dict and set(worlds) == set(names)
-                and self.are_rows(worlds, left))
+        # The worlds that agree on what is seen and on other names, looked for as [36] tells them, name by name.
+        right = {name: self.agreeing((*seen, *[other for other in names if other != name])) for name in names}
+        return not self.agreeing((*seen, *names)) and all(any(alike(worlds[name], row) for row in right[name]) for name in names)
+
+    def agreeing(self, names):
+        """The rows of pairs of the worlds that agree on some choices, and have another value."""
+        return [pairs for pairs in self.turned if not {name for name, _ in pairs} & set(names)]
 
 
 class PapersTest(unittest.TestCase):
@@ -252,15 +260,47 @@ class PapersTest(unittest.TestCase):
         """Each set of choices, with the first rows of pairs that turn the answer with it."""
         for worth, standing in random_worths(60, 18):
             by_hand = ByHand(worth, standing)
-            for many in range(len(worth.choices) + 1):
-                for names in itertools.combinations(worth.choices.names, many):
-                    worlds = {name: next((pairs for pairs in by_hand.turned if {other for other, _ in pairs} <= {name, *names}), ())
-                              for name in worth.choices.names if name not in names}
-                    self.check(free_holds(worth, standing, names, worlds), by_hand.free_holds(names, worlds), (names, worlds))
-                    told = ("show", names, {name: next((pairs for pairs in by_hand.turned if not {other for other, _ in pairs}
-                                                        & {other for other in names if other != name}), ()) for name in names})
-                    self.check(shown_holds(worth, standing, (), told), by_hand.shown_holds((), told), told)
+            for names in subsets(worth.choices.names):
+                worlds = {name: next((pairs for pairs in by_hand.turned if {other for other, _ in pairs} <= {name, *names}), ())
+                          for name in worth.choices.names if name not in names}
+                self.check(free_holds(worth, standing, names, worlds), by_hand.free_holds(names, worlds), (names, worlds))
         self.assertGreater(min(self.counts.values()), 60)
+
+    def test_all_sets_to_show(self):
+        """Each set of choices, whatever is seen, with worlds that agree on what is seen and with others that do not."""
+        with_seen = 0
+        for worth, standing in random_worths(60, 19):
+            by_hand = ByHand(worth, standing)
+            for seen, names in itertools.product(subsets(worth.choices.names), repeat=2):
+                for besides in ((), seen):
+                    worlds = {name: next(iter(by_hand.agreeing({*names, *besides} - {name})), ()) for name in names}
+                    told = ("show", names, worlds)
+                    holds = shown_holds(worth, standing, seen, told)
+                    self.check(holds, by_hand.shown_holds(seen, told), (worth.nodes, standing, seen, told))
+                    if set(seen) & set(names):
+                        self.assertIs(holds, False)
+                        with_seen += () not in worlds.values() and not by_hand.is_free(set(worth.choices.names) - set(seen))
+        self.assertGreater(min(self.counts.values()), 60)
+        self.assertGreater(with_seen, 60)
+
+    def test_seen_choices_are_not_to_be_shown(self):
+        """No set with a seen choice holds, though the answer turns with it alone; the set without it does."""
+        choices = choices_of(a=2, b=3, c=2)
+        worth = worth_of(choices, lambda world: world["a"] == 1 or world["b"] == 1 or world["c"] == 1)
+        rows = {"a": (("a", 1),), "b": (("b", 1),), "c": (("c", 1),)}
+        for seen in itertools.chain.from_iterable(itertools.product("abc", repeat=many) for many in range(4)):
+            for names in subsets(("a", "b", "c")):
+                told = ("show", names, {name: rows[name] for name in names})
+                self.assertIs(shown_holds(worth, {}, seen, told), bool(names) and {*seen, *names} == {"a", "b", "c"}
+                              and not set(seen) & set(names))
+                self.assertIs(shown_holds(worth, {}, list(seen), told), shown_holds(worth, {}, seen, told))
+        # Worlds that show why each name is told do not help where one of the names is seen.
+        for pairs in ((("a", 1),), (("b", 1),), (("c", 1),), (("a", 1), ("c", 1)), (("b", 1), ("c", 1)), ()):
+            told = ("show", ("a", "b", "c"), {**rows, "a": pairs})
+            self.assertIs(shown_holds(worth, {}, ("a",), told), False)
+        self.assertIs(shown_holds(worth, {"b": 2}, ("b",), ("show", ("a", "b", "c"), rows)), False)
+        self.assertIs(shown_holds(worth, {"b": 2}, ("b",), ("show", ("a", "c"), {name: rows[name] for name in "ac"})), True)
+        self.assertIs(shown_holds(worth, {"b": 2}, (), ("show", ("a", "b", "c"), rows)), True)
 
     def test_other_free_sets(self):
         """Sets that are made in another order are as good."""
